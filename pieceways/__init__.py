@@ -1,0 +1,1 @@
+"""Pieceways: letters cut to pieces on the way, and put together again."""

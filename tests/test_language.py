@@ -1,0 +1,143 @@
+"""Holds the package's files to those rules of ../shared/LANGUAGE.md that a short look at the tree can see."""
+
+import ast
+import builtins
+import pathlib
+import re
+import unittest
+
+PACKAGE = pathlib.Path(__file__).resolve().parent.parent / "pieceways"
+
+ALLOWED_NAMES = set("""
+    len range enumerate zip min max sum abs sorted reversed int str bool list tuple dict set frozenset isinstance ord
+    repr any all divmod Exception ValueError TypeError KeyError IndexError LookupError ZeroDivisionError
+    ArithmeticError OverflowError RuntimeError NotImplementedError AttributeError StopIteration
+""".split())
+ALLOWED_DUNDERS = {"__init__", "__eq__", "__repr__", "__str__", "__len__", "__all__", "__version__"}
+OUT_NAMES = set("""
+    register mro elements open input version_info with_traceback add_note format format_map encode
+""".split())
+OUT_WORDS = re.compile(r"\b(type|typing|typing_extensions|[Ee]num|IntEnum|StrEnum|Flag|IntFlag|Generic|Protocol|ABC"
+                       r"|ABCMeta|namedtuple|NamedTuple|TypedDict|TYPE_CHECKING|abstractmethod)\b"
+                       r"|dataclass|overload|contextmanager")
+OUT_NODES = (
+    ast.Import, ast.With, ast.Match, ast.Delete, ast.Global, ast.Nonlocal, ast.Assert, ast.Yield, ast.YieldFrom,
+    ast.AsyncFunctionDef, ast.AsyncFor, ast.AsyncWith, ast.Await, ast.Div, ast.MatMult, ast.SetComp, ast.DictComp,
+    ast.GeneratorExp, ast.NamedExpr, ast.Starred, ast.AnnAssign,
+)
+
+
+def files():
+    return sorted(path for path in PACKAGE.rglob("*") if path.is_file() and "__pycache__" not in path.parts)
+
+
+def bound_names(tree):
+    for node in ast.walk(tree):
+        if isinstance(node, (ast.FunctionDef, ast.ClassDef)):
+            yield node.name
+        elif isinstance(node, ast.Name):
+            yield node.id
+        elif isinstance(node, ast.arg):
+            yield node.arg
+        elif isinstance(node, ast.Attribute):
+            yield node.attr
+
+
+def imports(tree):
+    return [node for node in ast.walk(tree) if isinstance(node, ast.ImportFrom)]
+
+
+def file_of(module):
+    return PACKAGE.parent / (module.replace(".", "/") + ".py")
+
+
+def top_names(path):
+    told = set()
+    for node in ast.parse(path.read_text()).body:
+        if isinstance(node, (ast.FunctionDef, ast.ClassDef)):
+            told.add(node.name)
+        elif isinstance(node, ast.Assign):
+            told.add(node.targets[0].id)
+    return told
+
+
+def parsed():
+    texts = [(path, path.read_text(encoding="utf-8")) for path in files()]
+    return [(path, text, ast.parse(text)) for path, text in texts]
+
+
+class Language(unittest.TestCase):
+    def test_files_and_signs(self):
+        for path, text, tree in parsed():
+            with self.subTest(path=path.name):
+                self.assertRegex(path.name, r"^[a-z0-9_]+\.py$")
+                self.assertEqual([sign for sign in text if sign != "\n" and not " " <= sign <= "~"], [])
+                self.assertIsNone(OUT_WORDS.search(text))
+
+    def test_sizes(self):
+        for path, text, tree in parsed():
+            with self.subTest(path=path.name):
+                self.assertLessEqual(len(text.splitlines()), 400)
+                self.assertLessEqual(max(len(line) for line in text.splitlines()), 120)
+                for node in ast.walk(tree):
+                    if isinstance(node, ast.FunctionDef):
+                        self.assertLessEqual(node.end_lineno - node.lineno + 1, 40, node.name)
+
+    def test_imports_draw_from_the_defining_file(self):
+        for path, text, tree in parsed():
+            with self.subTest(path=path.name):
+                for node in imports(tree):
+                    self.assertEqual(node.level, 0)
+                    self.assertTrue(node.module.startswith("pieceways."), node.module)
+                    self.assertLessEqual({name.name for name in node.names}, top_names(file_of(node.module)))
+
+    def test_no_two_files_draw_from_one_another(self):
+        drawn = {path: {file_of(node.module) for node in imports(tree)} for path, text, tree in parsed()}
+        while drawn:
+            free = [path for path in drawn if not drawn[path] & set(drawn)]
+            self.assertTrue(free, "a ring of imports")
+            drawn = {path: drawn[path] for path in drawn if path not in free}
+
+    def test_forms_that_are_out(self):
+        for path, text, tree in parsed():
+            with self.subTest(path=path.name):
+                for node in ast.walk(tree):
+                    self.assertNotIsInstance(node, OUT_NODES)
+                    self.assertFalse(getattr(node, "decorator_list", []))
+                    if isinstance(node, (ast.For, ast.While)):
+                        self.assertEqual(node.orelse, [])
+                    if isinstance(node, ast.Assign):
+                        self.assertEqual(len(node.targets), 1)
+                    if isinstance(node, ast.Try):
+                        self.assertEqual(node.finalbody, [])
+                    if isinstance(node, ast.Constant):
+                        self.assertIsInstance(node.value, (int, str, bool, type(None)))
+
+    def test_names(self):
+        for path, text, tree in parsed():
+            with self.subTest(path=path.name):
+                for name in bound_names(tree):
+                    self.assertTrue(name in ALLOWED_DUNDERS or not name.startswith("_"), name)
+                    self.assertNotIn(name, OUT_NAMES)
+                for node in ast.walk(tree):
+                    if isinstance(node, ast.Name) and hasattr(builtins, node.id):
+                        self.assertIn(node.id, ALLOWED_NAMES)
+                        self.assertIsInstance(node.ctx, ast.Load)
+                    if isinstance(node, ast.arg):
+                        self.assertFalse(hasattr(builtins, node.arg), node.arg)
+
+    def test_no_name_is_a_method_and_a_value(self):
+        methods = set()
+        values = set()
+        for path, text, tree in parsed():
+            with self.subTest(path=path.name):
+                for node in ast.walk(tree):
+                    if isinstance(node, ast.ClassDef):
+                        methods |= {part.name for part in node.body if isinstance(part, ast.FunctionDef)}
+                    if isinstance(node, ast.Attribute) and isinstance(node.ctx, ast.Store):
+                        values.add(node.attr)
+        self.assertEqual(methods & values, set())
+
+
+if __name__ == "__main__":
+    unittest.main()
