@@ -1,9 +1,13 @@
-"""What counts as a whole number, a truth, a name, a key's number and a body."""
+"""What counts as a whole number, a truth, a name, a key's number, a body, a width and a rule."""
 
 MOST_NUMBER = 65535
 MOST_BYTE = 255
 MOST_SIGNS = 8
 MOST_BYTES = 4000
+LEAST_WIDTH = 8
+MOST_WIDTH = 5000
+MOST_WIDTHS = 20
+RULES = ("first", "last", "refuse")
 
 
 def is_whole(value):
@@ -38,3 +42,21 @@ def is_body(value):
     if not isinstance(value, list) or not 1 <= len(value) <= MOST_BYTES:
         return False
     return all([is_byte(part) for part in value])
+
+
+def is_length(value):
+    return is_whole_within(value, 1, MOST_BYTES)
+
+
+def is_width(value):
+    return is_whole_within(value, LEAST_WIDTH, MOST_WIDTH)
+
+
+def are_widths(value):
+    if not isinstance(value, list) or not 1 <= len(value) <= MOST_WIDTHS:
+        return False
+    return all([is_width(part) for part in value])
+
+
+def is_rule(value):
+    return isinstance(value, str) and value in RULES

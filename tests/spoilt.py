@@ -1,4 +1,4 @@
-"""Values that are no good as a part of a letter or a piece, for the tests of both."""
+"""Values that are no good: as a part of a letter or a piece, as a width, as widths, as a length, as a rule."""
 
 NUMBERS = [-1, -65536, 65536, 10 ** 19, True, False, "7", "", None, [7], (7,)]
 NAMES = [
@@ -8,6 +8,24 @@ NAMES = [
 TRUTHS = [0, 1, 2, "", "True", "!", None, [], [True]]
 BYTES = [-1, -256, 256, 1000, True, False, "a", "7", "", None, [7], (7,)]
 PLACES = [-8, -1, 1, 4, 7, 9, 12, 3999, -(10 ** 19), True, False, "0", "8", "", None, [0], (8,)]
+WIDTHS = [7, 1, 0, -1, -8, -16, 5001, 5008, 10 ** 19, True, False, "8", "16", "", None, [], [16], (16,), {16: 16}]
+LENGTHS = [0, -1, -8, -4000, 4001, 4008, 10 ** 19, True, False, "8", "", None, [], [8], (8,)]
+RULES = [
+    "", "First", "LAST", "firsts", "firs", " first", "first ", "refuse\n", "oldest", "fresh", "first last", None, 0, 1,
+    True, False, [], ["first"], ("first",), ("first", "last", "refuse"), {"first": True},
+]
+
+
+def width_lists():
+    whole_ones = [[], [16] * 21, [16] * 40, (16,), (16, 24), 16, 8, 0, True, False, None, "", "16", {16: 16}, [[16]]]
+    told = list(whole_ones)
+    for count in [1, 2, 3, 20]:
+        for place in range(count):
+            for value in WIDTHS:
+                widths = [16 + 8 * number for number in range(count)]
+                widths[place] = value
+                told.append(widths)
+    return told
 
 
 def bodies_with_a_spoilt_byte(body):

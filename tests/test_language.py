@@ -17,6 +17,11 @@ ALLOWED_DUNDERS = {"__init__", "__eq__", "__repr__", "__str__", "__len__", "__al
 OUT_NAMES = set("""
     register mro elements open input version_info with_traceback add_note format format_map encode
 """.split())
+ALLOWED_METHODS = set("""
+    append clear copy count endswith extend find get index insert isalnum isalpha isdigit islower isspace isupper items
+    join keys ljust lower lstrip partition pop remove replace reverse rfind rjust rpartition rsplit rstrip setdefault
+    split splitlines startswith strip update upper values zfill bit_length
+""".split())
 OUT_WORDS = re.compile(r"\b(type|typing|typing_extensions|[Ee]num|IntEnum|StrEnum|Flag|IntFlag|Generic|Protocol|ABC"
                        r"|ABCMeta|namedtuple|NamedTuple|TypedDict|TYPE_CHECKING|abstractmethod)\b"
                        r"|dataclass|overload|contextmanager")
@@ -58,6 +63,20 @@ def top_names(path):
             told.add(node.name)
         elif isinstance(node, ast.Assign):
             told.add(node.targets[0].id)
+    return told
+
+
+def drawn_and_classes(tree):
+    drawn = {name.asname or name.name for node in imports(tree) for name in node.names}
+    return drawn | {node.name for node in ast.walk(tree) if isinstance(node, ast.ClassDef)}
+
+
+def own_methods():
+    told = set()
+    for path, text, tree in parsed():
+        for node in ast.walk(tree):
+            if isinstance(node, ast.ClassDef):
+                told |= {part.name for part in node.body if isinstance(part, ast.FunctionDef)}
     return told
 
 
@@ -126,17 +145,54 @@ class Language(unittest.TestCase):
                     if isinstance(node, ast.arg):
                         self.assertFalse(hasattr(builtins, node.arg), node.arg)
 
-    def test_no_name_is_a_method_and_a_value(self):
-        methods = set()
-        values = set()
+    def test_no_local_is_called_like_a_class_or_an_import(self):
+        for path, text, tree in parsed():
+            with self.subTest(path=path.name):
+                taken = drawn_and_classes(tree)
+                for node in ast.walk(tree):
+                    if isinstance(node, ast.Name) and isinstance(node.ctx, ast.Store):
+                        self.assertNotIn(node.id, taken)
+                    if isinstance(node, ast.arg):
+                        self.assertNotIn(node.arg, taken)
+
+    def test_the_top_of_a_file(self):
+        for path, text, tree in parsed():
+            with self.subTest(path=path.name):
+                self.assertIsNotNone(ast.get_docstring(tree))
+                for node in tree.body[1:]:
+                    self.assertIsInstance(node, (ast.ImportFrom, ast.FunctionDef, ast.ClassDef, ast.Assign))
+                    if isinstance(node, ast.Assign):
+                        ast.literal_eval(node.value)
+
+    def test_a_call_alone_stands_by_itself(self):
+        for path, text, tree in parsed():
+            with self.subTest(path=path.name):
+                for node in ast.walk(ast.Module(tree.body[1:], [])):
+                    if isinstance(node, ast.Expr):
+                        self.assertIsInstance(node.value, ast.Call, node.lineno)
+
+    def test_is_stands_beside_none_true_and_false(self):
         for path, text, tree in parsed():
             with self.subTest(path=path.name):
                 for node in ast.walk(tree):
-                    if isinstance(node, ast.ClassDef):
-                        methods |= {part.name for part in node.body if isinstance(part, ast.FunctionDef)}
-                    if isinstance(node, ast.Attribute) and isinstance(node.ctx, ast.Store):
-                        values.add(node.attr)
-        self.assertEqual(methods & values, set())
+                    if isinstance(node, ast.Compare) and isinstance(node.ops[0], (ast.Is, ast.IsNot)):
+                        self.assertIn(ast.unparse(node.comparators[0]), ["None", "True", "False"])
+
+    def test_methods_are_those_allowed_or_the_package_s_own(self):
+        allowed = ALLOWED_METHODS | own_methods()
+        for path, text, tree in parsed():
+            with self.subTest(path=path.name):
+                for node in ast.walk(tree):
+                    if isinstance(node, ast.Call) and isinstance(node.func, ast.Attribute):
+                        self.assertIn(node.func.attr, allowed)
+
+    def test_no_name_is_a_method_and_a_value(self):
+        values = set()
+        for path, text, tree in parsed():
+            for node in ast.walk(tree):
+                if isinstance(node, ast.Attribute) and isinstance(node.ctx, ast.Store):
+                    values.add(node.attr)
+        self.assertEqual(own_methods() & values, set())
 
 
 if __name__ == "__main__":
