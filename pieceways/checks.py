@@ -1,4 +1,4 @@
-"""What counts as a whole number, a truth, a name, a key's number, a body, a width and a rule."""
+"""What counts as a whole number, a truth, a name, a key, a body, a width, a rule, a time and a number's figures."""
 
 MOST_NUMBER = 65535
 MOST_BYTE = 255
@@ -7,7 +7,10 @@ MOST_BYTES = 4000
 LEAST_WIDTH = 8
 MOST_WIDTH = 5000
 MOST_WIDTHS = 20
+MOST_FIGURES = 12
 RULES = ("first", "last", "refuse")
+OUTS = ("oldest", "widest", "own")
+AGAINS = ("fresh", "rest")
 
 
 def is_whole(value):
@@ -17,6 +20,10 @@ def is_whole(value):
 
 def is_whole_within(value, low, high):
     return is_whole(value) and low <= value <= high
+
+
+def is_whole_from(value, low):
+    return is_whole(value) and value >= low
 
 
 def is_truth(value):
@@ -32,6 +39,13 @@ def is_name(value):
         return False
     # islower and isalpha would let letters beyond a to z by.
     return all(["a" <= sign <= "z" for sign in value])
+
+
+def is_key(value):
+    # Python takes (True, "a", "b") for equal to (1, "a", "b"), so a look into a dict of keys is not enough.
+    if not isinstance(value, tuple) or len(value) != 3:
+        return False
+    return is_number(value[0]) and is_name(value[1]) and is_name(value[2])
 
 
 def is_byte(value):
@@ -60,3 +74,18 @@ def are_widths(value):
 
 def is_rule(value):
     return isinstance(value, str) and value in RULES
+
+
+def is_out(value):
+    return isinstance(value, str) and value in OUTS
+
+
+def is_again(value):
+    return isinstance(value, str) and value in AGAINS
+
+
+def are_figures(word):
+    if not 1 <= len(word) <= MOST_FIGURES:
+        return False
+    # isdigit would let figures beyond 0 to 9 by.
+    return all(["0" <= sign <= "9" for sign in word]) and (word == "0" or not word.startswith("0"))

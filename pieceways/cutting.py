@@ -49,13 +49,16 @@ def all_cut_again(pieces, width):
     return told
 
 
+def cut_over(pieces, widths):
+    for width in widths:
+        pieces = all_cut_again(pieces, width)
+    return pieces
+
+
 def sent(letter, widths):
     # All widths are looked at ahead of the cutting: NoWidth goes ahead of TooWide.
     check_widths(widths)
-    pieces = cut(letter, widths[0])
-    for width in widths[1:]:
-        pieces = all_cut_again(pieces, width)
-    return pieces
+    return cut_over(cut(letter, widths[0]), widths[1:])
 
 
 def least(length, widths):

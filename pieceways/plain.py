@@ -61,6 +61,9 @@ class Reading:
             # Where the END is known already, a piece that is not strange ends there too.
             self.ending = piece.end()
 
+    def size(self):
+        return len(self.standing)
+
     def missing(self):
         return lacking(self.cover, self.ending)
 

@@ -1,4 +1,4 @@
-"""Values that are no good: as a part of a letter or a piece, as a width, as widths, as a length, as a rule."""
+"""Values that are no good: as a part of a letter or a piece, as a width, widths, a length, a rule, a time and so on."""
 
 NUMBERS = [-1, -65536, 65536, 10 ** 19, True, False, "7", "", None, [7], (7,)]
 NAMES = [
@@ -14,6 +14,19 @@ RULES = [
     "", "First", "LAST", "firsts", "firs", " first", "first ", "refuse\n", "oldest", "fresh", "first last", None, 0, 1,
     True, False, [], ["first"], ("first",), ("first", "last", "refuse"), {"first": True},
 ]
+OUTS = [
+    "", "Oldest", "OWN", "own ", " own", "owns", "wides", "first", "fresh", "oldest widest", None, 0, True, [], ["own"],
+    ("own",), {"own": True},
+]
+AGAINS = [
+    "", "Fresh", "REST", "rest ", " rest", "rests", "fres", "own", "first", "fresh rest", None, 0, True, False, [],
+    ["rest"], ("rest",), {"rest": True},
+]
+# Of waits and spaces, which begin at 1.
+FROM_ONE = [0, -1, -10, -(10 ** 19), True, False, None, "1", "5", "", [], [5], (5,), {5: 5}]
+# Of times and delays, which begin at 0.
+FROM_NOUGHT = [-1, -10, -(10 ** 19), True, False, None, "0", "5", "", [], [5], (5,), {5: 5}]
+THINGS = [None, 7, True, "7 a b 0 . . 00", "", [], [7], (7, "a", "b"), {}]
 
 
 def width_lists():

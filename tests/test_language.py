@@ -30,6 +30,17 @@ OUT_NODES = (
     ast.AsyncFunctionDef, ast.AsyncFor, ast.AsyncWith, ast.Await, ast.Div, ast.MatMult, ast.SetComp, ast.DictComp,
     ast.GeneratorExp, ast.NamedExpr, ast.Starred, ast.AnnAssign,
 )
+FREE_METHODS = ALLOWED_METHODS | {"add", "discard"} | ALLOWED_DUNDERS
+FREE_VALUES = set("count index title find get join lower upper split strip copy add".split())
+PYTHONS_OWN = set()
+for kind in (str, int, bool, float, list, tuple, dict, set, frozenset, bytes, bytearray):
+    PYTHONS_OWN |= set(dir(kind))
+WALKED = {"zip", "enumerate", "reversed", "range", "items", "keys", "values"}
+WALKERS = {"list", "tuple", "dict", "sorted", "sum", "any", "all", "enumerate", "zip", "min", "max"}
+KEYWORDS = {
+    "sorted": {"key", "reverse"}, "min": {"key", "default"}, "max": {"key", "default"}, "sum": {"start"},
+    "enumerate": {"start"}, "zip": {"strict"},
+}
 
 
 def files():
@@ -46,6 +57,13 @@ def bound_names(tree):
             yield node.arg
         elif isinstance(node, ast.Attribute):
             yield node.attr
+
+
+def called(node):
+    """The name by which a call calls, of a function or of a method."""
+    if isinstance(node.func, ast.Attribute):
+        return node.func.attr
+    return node.func.id
 
 
 def imports(tree):
@@ -193,6 +211,90 @@ class Language(unittest.TestCase):
                 if isinstance(node, ast.Attribute) and isinstance(node.ctx, ast.Store):
                     values.add(node.attr)
         self.assertEqual(own_methods() & values, set())
+
+    def test_methods_and_values_bear_free_names(self):
+        for path, text, tree in parsed():
+            for node in ast.walk(tree):
+                if isinstance(node, ast.Attribute) and isinstance(node.ctx, ast.Store):
+                    self.assertNotIn(node.attr, PYTHONS_OWN - FREE_VALUES)
+        self.assertEqual(own_methods() & PYTHONS_OWN - FREE_METHODS, set())
+
+    def test_walked_at_once(self):
+        for path, text, tree in parsed():
+            for node in ast.walk(tree):
+                held = []
+                if isinstance(node, (ast.For, ast.comprehension)):
+                    held = [node.iter]
+                elif isinstance(node, ast.Call) and called(node) in WALKERS:
+                    held = node.args[:1]
+                for part in held:
+                    part.walked_here = True
+            for node in ast.walk(tree):
+                if isinstance(node, ast.Call) and called(node) in WALKED:
+                    self.assertTrue(getattr(node, "walked_here", False), (path.name, node.lineno))
+
+    def test_sets_are_not_used(self):
+        for path, text, tree in parsed():
+            for node in ast.walk(tree):
+                self.assertNotIsInstance(node, ast.Set)
+                self.assertFalse(isinstance(node, ast.Name) and node.id in ["set", "frozenset", "chr"])
+
+    def test_keywords(self):
+        own = set().union(*[top_names(path) for path in files()])
+        for path, text, tree in parsed():
+            for node in ast.walk(tree):
+                if isinstance(node, ast.Call) and node.keywords and called(node) not in own:
+                    self.assertLessEqual({word.arg for word in node.keywords}, KEYWORDS.get(called(node), set()))
+
+    def test_texts_and_comprehensions(self):
+        for path, text, tree in parsed():
+            for node in ast.walk(tree):
+                if isinstance(node, ast.Constant) and isinstance(node.value, str):
+                    self.assertNotIn("%", node.value)
+                if isinstance(node, ast.FormattedValue):
+                    self.assertIsInstance(node.value, ast.Name)
+                    self.assertIsNone(node.format_spec)
+                if isinstance(node, ast.ListComp):
+                    self.assertEqual(len(node.generators), 1)
+                    self.assertLessEqual(len(node.generators[0].ifs), 1)
+
+    def test_own_errors_alone_are_taken_and_raised(self):
+        own = top_names(PACKAGE / "errors.py")
+        for path, text, tree in parsed():
+            for node in ast.walk(tree):
+                if isinstance(node, ast.ExceptHandler):
+                    self.assertIn(ast.unparse(node.type), own)
+                if isinstance(node, ast.Raise):
+                    self.assertIn(called(node.exc), own)
+
+    def test_targets_are_plain(self):
+        for path, text, tree in parsed():
+            for node in ast.walk(tree):
+                if isinstance(node, ast.Assign):
+                    self.assertIsInstance(node.targets[0], (ast.Name, ast.Attribute, ast.Subscript))
+
+    def test_values_of_a_file_s_top_are_no_lists_and_no_dicts(self):
+        for path, text, tree in parsed():
+            for node in tree.body:
+                if isinstance(node, ast.Assign):
+                    self.assertIsInstance(node.value, (ast.Constant, ast.Tuple))
+
+    def test_classes_are_called_or_named_as_a_kind(self):
+        kinds = {node.name for path, text, tree in parsed() for node in tree.body if isinstance(node, ast.ClassDef)}
+        for path, text, tree in parsed():
+            for node in ast.walk(tree):
+                if isinstance(node, ast.Call):
+                    node.func.as_kind = True
+                    if called(node) == "isinstance":
+                        node.args[1].as_kind = True
+                elif isinstance(node, ast.ClassDef):
+                    for base in node.bases:
+                        base.as_kind = True
+                elif isinstance(node, ast.ExceptHandler):
+                    node.type.as_kind = True
+            for node in ast.walk(tree):
+                if isinstance(node, ast.Name) and node.id in kinds:
+                    self.assertTrue(getattr(node, "as_kind", False), (path.name, node.lineno))
 
 
 if __name__ == "__main__":
